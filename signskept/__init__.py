@@ -1,0 +1,1 @@
+"""Narrow values in wide registers, and the upper bits that are needed."""
