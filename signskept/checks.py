@@ -23,3 +23,12 @@ def is_word(thing):
 def is_listed(thing):
     """Whether this is a list or a tuple."""
     return isinstance(thing, (list, tuple))
+
+
+def is_run(thing, most):
+    """Whether this is a tuple of two tuples of integers from 0 to most."""
+    if not isinstance(thing, tuple) or len(thing) != 2:
+        return False
+    if not isinstance(thing[0], tuple) or not isinstance(thing[1], tuple):
+        return False
+    return all([is_between(bits, 0, most) for bits in thing[0] + thing[1]])

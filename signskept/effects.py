@@ -46,13 +46,23 @@ def _step_of(row, indexes, effects):
     return (indexes.get(changed_by(row)), operands, effects[_kind_of(row)])
 
 
+def effect_of(step, dresses):
+    """Whether the need of a step fails with a row of dresses, and the marks of what it answers."""
+    _, operands, effects = step
+    return effects[tuple([dresses[at] for at in operands])]
+
+
+def replaced(row, target, part):
+    """The row with another part at an index, or the same row for None."""
+    if target is None:
+        return row
+    return row[:target] + (part,) + row[target + 1:]
+
+
 def step_behind(step, dresses):
     """Whether the need of a step fails with a row of dresses, and the row of dresses behind it."""
-    target, operands, effects = step
-    fails, marks = effects[tuple([dresses[at] for at in operands])]
-    if target is None:
-        return fails, dresses
-    return fails, dresses[:target] + (marks,) + dresses[target + 1:]
+    fails, marks = effect_of(step, dresses)
+    return fails, replaced(dresses, step[0], marks)
 
 
 def dresses_behind(steps, dresses):

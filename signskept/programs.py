@@ -30,6 +30,11 @@ def is_block(program, thing):
     return isinstance(thing, str) and thing in program.words
 
 
+def table_of(program):
+    """A dict of the words and Operations of the table of a program."""
+    return {word: program._table[word] for word in program._table}
+
+
 class Program:
     """Blocks of rows, with the first block, what is sure at the beginning, and a table of operations."""
 

@@ -22,6 +22,12 @@ def is_road(program, thing):
     return True
 
 
+def check_road(program, thing):
+    """Refuse what is no Program, and what is no road of it."""
+    if not is_road(program, thing):
+        raise BadRoad(thing)
+
+
 def roads(program, most):
     """All roads of at most so many blocks, shorter ones first, those of one length ascending."""
     check_program(program)
@@ -39,9 +45,7 @@ class Walk:
     """The rows that are done along a road, each with the row of dresses ahead of it."""
 
     def __init__(self, program, road):
-        check_program(program)
-        if not is_road(program, road):
-            raise BadRoad(road)
+        check_road(program, road)
         self._program = program
         self._road = road
         plan = plan_of(program)

@@ -150,7 +150,30 @@ def can_differ(word, row, narrow, wide):
     return any(differs(word, bits, narrow, wide) for bits in itertools.product(*choices))
 
 
-def done(row, dresses):
+def rule(rows):
+    """Whether one of some rows of wants holds, as a function of sets of marks."""
+    return lambda *operands: any(all(set(want) <= have for want, have in zip(wants, operands)) for wants in rows)
+
+
+def with_table(told):
+    """The known operations and those of a dict of words and tuples (arity, needs, z, s) of rows of wants."""
+    return {**OPERATIONS, **{word: (parts[0],) + tuple(map(rule, parts[1:])) for word, parts in told.items()}}
+
+
+def random_wants(chance, arity, least, most, texts=TEXTS):
+    """A tuple of some rows of wants."""
+    return tuple(tuple(chance.choice(texts) for _ in range(arity)) for _ in range(chance.randint(least, most)))
+
+
+def random_table(chance, many=3):
+    """A dict of words and tuples (arity, needs, z, s)."""
+    words = ["mix", "go", "first", "start", "block", "w", "x", "y"][:many]
+    arities = [chance.randint(0, 3) for _ in words]
+    return {word: (arity, random_wants(chance, arity, 1, 4), random_wants(chance, arity, 0, 4),
+                   random_wants(chance, arity, 0, 4)) for word, arity in zip(words, arities)}
+
+
+def done(row, dresses, table=OPERATIONS):
     """Whether the need of a row fails, and the dresses behind it; dresses are a dict of sets."""
     behind = dict(dresses)
     fails = False
@@ -160,7 +183,7 @@ def done(row, dresses):
     elif row[0] == "move":
         behind[row[1]] = dresses[row[2]]
     else:
-        _, need, gives_z, gives_s = OPERATIONS[row[2]]
+        _, need, gives_z, gives_s = table[row[2]]
         operands = [dresses[name] for name in row[3:]]
         fails = not need(*operands)
         given = {mark for mark, rule in (("z", gives_z), ("s", gives_s)) if rule(*operands)}
@@ -197,20 +220,20 @@ def all_roads(first, blocks, most):
     return sorted(found, key=lambda road: (len(road), road))
 
 
-def walked(blocks, starts, road):
+def walked(blocks, starts, road, table=OPERATIONS):
     """Along a road: the steps (place, row of dresses), the row behind it, and the indexes of fails."""
     now = begin(blocks, starts)
     steps, fails = [], []
     for word in road:
         for at, row in enumerate(blocks[word][0]):
             steps.append(((word, at), row_of(now)))
-            failed, now = done(row, now)
+            failed, now = done(row, now, table)
             if failed:
                 fails.append(len(steps) - 1)
     return steps, row_of(now), fails
 
 
-def explored(first, blocks, starts):
+def explored(first, blocks, starts, table=OPERATIONS):
     """For each entry the fewest rows ahead of it, by going on until nothing gets better.
 
     Second, for each place that can fail the fewest rows ahead of it.
@@ -223,7 +246,7 @@ def explored(first, blocks, starts):
         word, dresses = entry = waiting.pop(0)
         now = {name: set(text) for name, text in zip(names, dresses)}
         for at, row in enumerate(blocks[word][0]):
-            failed, now = done(row, now)
+            failed, now = done(row, now, table)
             if failed:
                 many = best[entry] + at
                 fewest[word, at] = min(many, fewest.get((word, at), many))
@@ -236,7 +259,75 @@ def explored(first, blocks, starts):
     return best, fewest
 
 
-def random_row(chance, names, words):
+def widened(bits, mark, narrow):
+    """A register behind a widening, reckoned by its low number; below 0 if it is so by s."""
+    low = bits % 2 ** narrow
+    return signed(low, narrow) if mark == "s" else low
+
+
+def played(blocks, starts, road, run, narrow, wide, table=OPERATIONS):
+    """Along a road with a run of bits: the bits ahead of each step and behind the road, and the fails.
+
+    The bits are dicts by variables; None if the run is not true.
+    """
+    answers = list(run[1])
+
+    def next_answer(given):
+        if answers and given <= true_marks(answers[0], narrow, wide):
+            return answers.pop(0)
+        return None
+    names = names_of(blocks, starts)
+    if len(run[0]) != len(names) or not all(0 <= bits < 2 ** wide for bits in run[0] + run[1]):
+        return None
+    for name, bits in zip(names, run[0]):
+        if not set(starts.get(name, "")) <= true_marks(bits, narrow, wide):
+            return None
+    found = gone(blocks, dict(zip(names, run[0])), road, next_answer, (narrow, wide), table)
+    return None if answers else found
+
+
+def gone(blocks, now, road, next_answer, sizes, table):
+    """As played, with the bits at the beginning, and a function that tells an answer for its marks."""
+    narrow, wide = sizes
+    rows, fails = [now], []
+    for row in [row for word in road for row in blocks[word][0]]:
+        ahead = rows[-1]
+        marks = {name: true_marks(ahead[name], narrow, wide) for name in ahead}
+        failed, _ = done(row, marks, table)
+        if failed:
+            fails.append(len(rows) - 1)
+        if row[0] == "move":
+            behind = {row[1]: ahead[row[2]]}
+        elif row[0] == "widen":
+            behind = {row[2]: widened(ahead[row[2]], row[1], narrow) % 2 ** wide}
+        else:
+            # What an operation gives is seen at a variable of its own.
+            _, told = done(row[:1] + ("the answer",) + row[2:], marks, table)
+            answer = next_answer(told["the answer"])
+            if answer is None:
+                return None
+            behind = {row[1]: answer}
+        rows.append({name: behind.get(name, ahead[name]) for name in ahead})
+    return rows, fails
+
+
+def random_run(chance, blocks, starts, road, sizes, table=OPERATIONS):
+    """A true run along a road, whose registers are drawn of all that may stand there."""
+    narrow, wide = sizes
+    answers = []
+
+    def drawn(marks):
+        return chance.choice([bits for bits in range(2 ** wide) if set(marks) <= true_marks(bits, narrow, wide)])
+
+    def next_answer(given):
+        answers.append(drawn(given))
+        return answers[-1]
+    begins = {name: drawn(starts.get(name, "")) for name in names_of(blocks, starts)}
+    gone(blocks, begins, road, next_answer, sizes, table)
+    return tuple(begins.values()), tuple(answers)
+
+
+def random_row(chance, names, words, table=OPERATIONS):
     """A row of any kind, with these variables and words."""
     kind = chance.random()
     if kind < 0.15:
@@ -245,18 +336,80 @@ def random_row(chance, names, words):
         return ("widen", chance.choice("zs"), chance.choice(names))
     word = chance.choice(words)
     answer = chance.choice(names + [None])
-    return ("do", answer, word) + tuple(chance.choice(names) for _ in range(OPERATIONS[word][0]))
+    return ("do", answer, word) + tuple(chance.choice(names) for _ in range(table[word][0]))
 
 
-def random_program(chance, many_blocks=4, many_names=3, most_rows=4):
-    """A tuple of first, blocks and starts, with known operations alone."""
+def random_program(chance, many_blocks=4, many_names=3, most_rows=4, table=OPERATIONS):
+    """A tuple of first, blocks and starts, with known operations and those of a table."""
     # Variables and blocks may have the words of marks, of operations and of kinds of rows, too.
     names = ["z", "a", "s", "add", "move"][:many_names]
     blocks = ["p", "s", "do", "z", "t", "u"][:many_blocks]
-    words = list(OPERATIONS)
+    words = list(table)
     told = {}
     for word in blocks:
-        rows = tuple(random_row(chance, names, words) for _ in range(chance.randint(0, most_rows)))
-        told[word] = (rows, tuple(chance.sample(blocks, chance.randint(0, 2))))
+        rows = tuple(random_row(chance, names, words, table) for _ in range(chance.randint(0, most_rows)))
+        told[word] = (rows, tuple(chance.sample(blocks, chance.randint(0, min(2, many_blocks)))))
     starts = {name: chance.choice(TEXTS + ("sz",)) for name in names if chance.random() < 0.5}
     return chance.choice(blocks), told, starts
+
+
+# The known operations that are simple in a mark.
+FIT = {"z": "load loadz loads one add sub mul neg shl or xor not shr udiv urem ult equ store".split(),
+       "s": "load loadz loads one add sub mul neg shl and or xor not sar sdiv srem ult slt equ store".split()}
+
+
+def random_fit_table(chance, mark, many=3, most_needs=3):
+    """A dict of words and tuples (arity, needs, z, s), all simple in a mark."""
+    told = {}
+    for word, (arity, needs, _, _) in random_table(chance, many).items():
+        fine = random_wants(chance, arity, 1, 1, ("", "", mark))
+        needs = needs[:chance.randint(0, most_needs - 1)]
+        at = chance.randint(0, len(needs))
+        mine = random_wants(chance, arity, 0, 1, ("", mark))
+        others = random_wants(chance, arity, 0, 3)
+        told[word] = (arity, needs[:at] + fine + needs[at:]) + ((mine, others) if mark == "z" else (others, mine))
+    return told
+
+
+def random_fit_program(chance, mark, told=None, **named):
+    """As random_program, all rows being simple in a mark; told is a table that is so."""
+    table = with_table(told or {})
+    few = {word: table[word] for word in FIT[mark] + sorted(told or {})}
+    first, blocks, starts = random_program(chance, table=few, **named)
+    blocks = {word: (tuple(("widen", mark, row[2]) if row[0] == "widen" else row for row in rows), goes)
+              for word, (rows, goes) in blocks.items()}
+    return first, blocks, starts
+
+
+def met(blocks, starts, road, mark, puts, table=OPERATIONS):
+    """Along a road with puts: tuples (point, dresses behind what is put there), and the widenings met.
+
+    Third, the row behind each point, or None.
+    """
+    now = begin(blocks, starts)
+    found, many, rows = [], 0, []
+
+    def come_by(spot):
+        nonlocal many
+        for at, name in puts:
+            if at == spot:
+                now.update(done(("widen", mark, name), now)[1])
+                many += 1
+    ahead = ""
+    for word in road:
+        come_by((ahead, word, 0))
+        for at, row in enumerate(blocks[word][0] + (None,)):
+            come_by((word, "", at))
+            found.append(((word, "", at), dict(now)))
+            rows.append(row)
+            if row is not None:
+                now.update(done(row, now, table)[1])
+        ahead = word
+    return found, many, rows
+
+
+def all_spots(first, blocks):
+    """All spots of the blocks that are on a road, ascending."""
+    words = sorted({word for road in all_roads(first, blocks, len(blocks)) for word in road})
+    return sorted([("", first, 0)] + [(word, target, 0) for word in words for target in blocks[word][1]]
+                  + [(word, "", at) for word in words for at in range(len(blocks[word][0]) + 1)])

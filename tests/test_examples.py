@@ -34,6 +34,34 @@ EXAMPLES = {
 >>> [Walk(program, ("p",)).steps[1], told.road, told.many, bool(verdict(fixed, ("p", 2)))]
 [(('p', 1), ('', 'z', 'z')), ('p',), 1, False]
 ''',
+    "12": '''
+>>> from signskept.plays import Play, bits_for
+>>> from signskept.programs import Program
+>>> program = Program("p", {"p": ((("do", "a", "load"), ("do", None, "shr", "a")), ())})
+>>> run = bits_for(program, ("p",), narrow=2, wide=4)
+>>> play = Play(program, ("p",), run, narrow=2, wide=4)
+>>> [run, play.fails(), play.dresses(1)]
+[((6,), (6, 6)), [1], ('',)]
+''',
+    "26": r'''
+>>> from signskept.programs import Program
+>>> from signskept.texts import format_program, parse_program
+>>> text = "first p\nstart a z\nblock p p q\n  do a add a a\nblock q\n"
+>>> program = parse_program(text)
+>>> [program.goes("p"), program["p", 0], format_program(program) == text]
+[('p', 'q'), ('do', 'a', 'add', 'a', 'a'), True]
+''',
+    "27": '''
+>>> from signskept.drafts import Draft
+>>> from signskept.programs import Program
+>>> draft = Draft(Program("p", {"p": ((("move", "a", "b"),), ())}))
+>>> draft["p", 0] = ("widen", "s", "a")
+>>> draft.put_more(("p", 0), ("do", "a", "load"))
+>>> first = [len(draft), draft["p", 0], draft["p", 1]]
+>>> draft.undo()
+>>> [first, draft.now().rows("p")]
+[[2, ('do', 'a', 'load'), ('widen', 's', 'a')], (('widen', 's', 'a'),)]
+''',
 }
 
 

@@ -39,6 +39,15 @@ INTERFACE = {
     "roads": {"Walk": "road steps dresses fails", "is_road": None, "roads": None},
     "tables": {"Table": "entries road_to", "Verdict": "place road many entries",
                **dict.fromkeys("is_closed verdict verdicts is_right worst".split())},
+    "plays": {"Play": "wides dresses fails", "is_true": None, "bits_for": None},
+    "leaving": {"Bench": "whole current left leave tried",
+                **dict.fromkeys("may_leave leavable greatest cheapest_left".split())},
+    "wants": dict.fromkeys("unfit wanted gift".split()),
+    "spots": dict.fromkeys("reached goes_of points spots".split()),
+    "puts": dict.fromkeys("unsure serves placed count_on".split()),
+    "everyroad": {"EveryRoad": "certain already puts paper", "is_paper": None},
+    "texts": dict.fromkeys("format_program parse_program format_run parse_run".split()),
+    "drafts": {"Draft": "now put_row put_more take_out undo copy trial", "tried": None},
 }
 
 
@@ -58,6 +67,8 @@ def bound_names(tree):
     for node in ast.walk(tree):
         if isinstance(node, ast.Name) and isinstance(node.ctx, ast.Store):
             yield node.id
+        elif isinstance(node, ast.ExceptHandler) and node.name is not None:
+            yield node.name
         elif isinstance(node, ast.arg):
             yield node.arg
         elif isinstance(node, (ast.FunctionDef, ast.ClassDef)) and id(node) not in methods:
@@ -213,8 +224,10 @@ class Code(unittest.TestCase):
         for name, tree in TREES.items():
             bound = set(bound_names(tree))
             bound |= {alias.name for node in tree.body if isinstance(node, ast.ImportFrom) for alias in node.names}
+            setters = {id(part.value) for node in functions_of(tree) for part in node.decorator_list
+                       if isinstance(part, ast.Attribute) and part.attr == "setter" and part.value.id == node.name}
             for node in ast.walk(tree):
-                if isinstance(node, ast.Name) and isinstance(node.ctx, ast.Load):
+                if isinstance(node, ast.Name) and isinstance(node.ctx, ast.Load) and id(node) not in setters:
                     self.assertIn(node.id, bound | BUILTINS, name)
                 if isinstance(node, ast.Call) and isinstance(node.func, ast.Attribute):
                     self.assertIn(node.func.attr, METHODS | own, name)
