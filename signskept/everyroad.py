@@ -104,7 +104,8 @@ def _fewest(zeros, steps):
                 if other not in found:
                     found[other] = found[point] + 1
                     further.append(other)
-        layer = further
+        # A list of its own, so that no other name of the list that is walked is appended to.
+        layer = list(further)
     return found
 
 

@@ -29,6 +29,8 @@ builtins compile copyright credits delattr dir eval exec exit gc globals help id
 os quit vars sys""".split())
 BARRED_WORDS = set("""type typing typing_extensions enum Enum IntEnum StrEnum Flag IntFlag Generic Protocol ABC ABCMeta
 namedtuple NamedTuple TypedDict TYPE_CHECKING abstractmethod""".split())
+VIEWS = ("items", "keys", "values")
+MODIFYING = set("append add discard clear extend insert pop remove reverse setdefault sort update appendleft popleft".split())
 INTERFACE = {
     "dresses": {"Dress": "marks within widened both none"},
     "wides": {"Wide": "bits narrow wide low above top dress signed widened fresh"},
@@ -73,6 +75,43 @@ def bound_names(tree):
             yield node.arg
         elif isinstance(node, (ast.FunctionDef, ast.ClassDef)) and id(node) not in methods:
             yield node.name
+
+
+def walked_in(node):
+    """The names, attributes and items over which a loop goes, also by a view, a choice or enumerate and its kin."""
+    if isinstance(node, (ast.Name, ast.Attribute, ast.Subscript)):
+        return [ast.unparse(node)]
+    if isinstance(node, ast.IfExp):
+        return walked_in(node.body) + walked_in(node.orelse)
+    if isinstance(node, ast.BoolOp):
+        return [name for part in node.values for name in walked_in(part)]
+    if isinstance(node, ast.Call) and isinstance(node.func, ast.Attribute) and node.func.attr in VIEWS:
+        return walked_in(node.func.value)
+    if isinstance(node, ast.Call) and isinstance(node.func, ast.Name) and node.func.id in ("enumerate", "zip", "reversed"):
+        return [name for part in node.args for name in walked_in(part)]
+    return []
+
+
+def changed_in(statements):
+    """The names, attributes and items of which something is changed in some statements."""
+    for node in [node for statement in statements for node in ast.walk(statement)]:
+        if isinstance(node, ast.Call) and isinstance(node.func, ast.Attribute) and node.func.attr in MODIFYING:
+            yield ast.unparse(node.func.value)
+        elif isinstance(node, ast.Call) and isinstance(node.func, ast.Name) and node.func.id.startswith("heap"):
+            yield ast.unparse(node.args[0])
+        elif isinstance(node, ast.Subscript) and isinstance(node.ctx, (ast.Store, ast.Del)):
+            yield ast.unparse(node.value)
+
+
+def other_names(function):
+    """For each name, attribute or item of a function all that may be the same thing, by plain assignments."""
+    groups = {}
+    for node in ast.walk(function):
+        if isinstance(node, ast.Assign):
+            parts = [name for part in node.targets + [node.value] for name in walked_in(part)]
+            joined = set(parts).union(*[groups.get(part, ()) for part in parts])
+            groups.update({part: joined for part in joined})
+    return groups
 
 
 def plain(node):
@@ -206,6 +245,15 @@ class Code(unittest.TestCase):
         for where, node in self.each(ast.Compare):
             if any(isinstance(op, (ast.Is, ast.IsNot)) for op in node.ops):
                 self.assertIn(ast.unparse(node.comparators[-1]), ("None", "True", "False"), where)
+
+    def test_what_a_loop_goes_over_is_not_changed_in_it(self):
+        for where, function in self.each(ast.FunctionDef):
+            same = other_names(function)
+            for node in ast.walk(function):
+                if isinstance(node, ast.For):
+                    found = set(changed_in(node.body))
+                    for name in walked_in(node.iter):
+                        self.assertFalse(({name} | same.get(name, set())) & found, f"{where}: {ast.unparse(node.iter)}")
 
     def test_names(self):
         everything = set(dir(builtins)) - {"_"}
