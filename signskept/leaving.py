@@ -1,6 +1,7 @@
 """Which widenings of a program may be left out."""
 
 from signskept.checks import is_listed
+from signskept.choices import is_part, parts_of
 from signskept.errors import NoPlace, TooMany
 from signskept.programs import check_program, is_place
 from signskept.tables import is_right
@@ -34,7 +35,7 @@ def leavable(program):
     found = program.widenings()
     if len(found) > MOST_WIDENINGS:
         raise TooMany(program)
-    for places in _parts_of(found):
+    for places in parts_of(found):
         if is_right(_without(program, places)):
             yield places
 
@@ -42,7 +43,7 @@ def leavable(program):
 def greatest(program):
     """The sets that may be left out and are no part of another one of them."""
     found = list(leavable(program))
-    return [places for places in found if not any([_is_part(places, other) for other in found])]
+    return [places for places in found if not any([is_part(places, other) for other in found])]
 
 
 def cheapest_left(program):
@@ -57,19 +58,6 @@ def cheapest_left(program):
 def _without(program, places):
     """The program without the rows of a set, the very program for none."""
     return program if places == () else program.without(places)
-
-
-def _parts_of(things):
-    """All choices of some things, as tuples, smaller ones first, those of one size ascending."""
-    parts = [()]
-    for thing in things:
-        parts = parts + [part + (thing,) for part in parts]
-    return [part for _, part in sorted([(len(part), part) for part in parts])]
-
-
-def _is_part(places, other):
-    """Whether all of some places, but not as many, are among the other ones."""
-    return len(places) < len(other) and all([place in other for place in places])
 
 
 class Bench:

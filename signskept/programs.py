@@ -25,6 +25,11 @@ def is_place(program, thing):
     return _is_spot(program, thing, 0)
 
 
+def is_gap(program, thing):
+    """Whether this is the place of a row of the program, or of the end of a block."""
+    return _is_spot(program, thing, 1)
+
+
 def is_block(program, thing):
     """Whether this is the word of a block of the program."""
     return isinstance(thing, str) and thing in program.words
@@ -39,7 +44,7 @@ class Program:
     """Blocks of rows, with the first block, what is sure at the beginning, and a table of operations."""
 
     def __init__(self, first, blocks, *, starts=None, table=None):
-        if table is not None and not _is_table(table):
+        if table is not None and not is_table(table):
             raise BadTable(table)
         self._table = {} if table is None else {word: table[word] for word in table}
         if not _are_blocks(blocks, self._table):
@@ -124,7 +129,7 @@ class Program:
 
     def with_more(self, place, row):
         """A Program with a row put ahead of the one at a place, or at the end of a block."""
-        if not _is_spot(self, place, 1):
+        if not is_gap(self, place):
             raise NoPlace(place)
         word, at = place
         rows = self._blocks[word][0]
@@ -164,7 +169,7 @@ def _is_spot(program, thing, more):
     return is_between(thing[1], 0, len(program.rows(thing[0])) - 1 + more)
 
 
-def _is_table(thing):
+def is_table(thing):
     """Whether this is a dict of not too many new words and Operations."""
     if not isinstance(thing, dict) or len(thing) > MOST_WORDS:
         return False

@@ -51,14 +51,14 @@ def placed(program, mark, puts):
 def count_on(program, puts, road):
     """How many of the widenings are met along a road."""
     check_program(program)
-    _check_puts(program, puts)
+    check_puts(program, puts)
     check_road(program, road)
     # A road comes by the points of a block and by the go that leads to it each time.
     passed = [(word, "") for word in road] + list(zip(("",) + road, road))
     return sum([passed.count((spot[0], spot[1])) for spot, _ in puts])
 
 
-def _check_puts(program, thing):
+def check_puts(program, thing):
     """Refuse what is no list or tuple of different puts."""
     if not is_listed(thing):
         raise BadPuts(thing)
@@ -80,7 +80,7 @@ def _check_marked_puts(program, mark, puts):
     """Refuse what is no Program, no mark, or no puts for it."""
     check_program(program)
     check_mark(mark)
-    _check_puts(program, puts)
+    check_puts(program, puts)
 
 
 def _is_on_go(spot):
@@ -143,10 +143,10 @@ def _nodes_behind(program, mark, sure, node):
         return [(first_point(target), name) for target in program.goes(word)
                 if ((word, target, 0), name) not in sure]
     given = gift_of(program, rows[at], mark)
-    return [((word, "", at + 1), other) for other in _names_behind(given, name)]
+    return [((word, "", at + 1), other) for other in names_behind(given, name)]
 
 
-def _names_behind(given, name):
+def names_behind(given, name):
     """The variables that are unsure behind a row because this one is ahead of it."""
     if given is None:
         return [name]

@@ -29,6 +29,8 @@ builtins compile copyright credits delattr dir eval exec exit gc globals help id
 os quit vars sys""".split())
 BARRED_WORDS = set("""type typing typing_extensions enum Enum IntEnum StrEnum Flag IntFlag Generic Protocol ABC ABCMeta
 namedtuple NamedTuple TypedDict TYPE_CHECKING abstractmethod""".split())
+NO_ATTRIBUTES = set("""items keys values pop update append clear extend insert remove reverse setdefault sort args encode
+decode hex fromhex format mro as_integer_ratio bit_count conjugate from_bytes is_integer to_bytes""".split())
 VIEWS = ("items", "keys", "values")
 MODIFYING = set("append add discard clear extend insert pop remove reverse setdefault sort update appendleft popleft".split())
 INTERFACE = {
@@ -48,6 +50,10 @@ INTERFACE = {
     "spots": dict.fromkeys("reached goes_of points spots".split()),
     "puts": dict.fromkeys("unsure serves placed count_on".split()),
     "everyroad": {"EveryRoad": "certain already puts paper", "is_paper": None},
+    "cuts": {"Cheapest": "puts cost flow", "cost_of": None, "flow_sum": None},
+    "functions": {"Function": "__init__", "Group": "entry words function calls variables_in"},
+    "books": {"Book": "__getitem__ __setitem__ __and__ __or__ __len__ __eq__ within", "alone": None, "is_kept": None},
+    "wholeruns": {"Run": "steps ended fails __len__"},
     "texts": dict.fromkeys("format_program parse_program format_run parse_run".split()),
     "drafts": {"Draft": "now put_row put_more take_out undo copy trial", "tried": None},
 }
@@ -254,6 +260,21 @@ class Code(unittest.TestCase):
                     found = set(changed_in(node.body))
                     for name in walked_in(node.iter):
                         self.assertFalse(({name} | same.get(name, set())) & found, f"{where}: {ast.unparse(node.iter)}")
+
+    def test_attributes_methods_and_properties(self):
+        methods, properties, setters, attributes = set(), set(), set(), set()
+        for _, node in self.each(ast.ClassDef):
+            for part in [part for part in node.body if isinstance(part, ast.FunctionDef)]:
+                told = [ast.unparse(one) for one in part.decorator_list]
+                if f"{part.name}.setter" in told:
+                    setters.add(part.name)
+                (properties if told and told[0] == "property" else methods).add(part.name)
+        for where, node in self.each(ast.Attribute):
+            if isinstance(node.ctx, ast.Store):
+                attributes.add(node.attr)
+        self.assertFalse(properties & (methods - setters))
+        self.assertFalse(attributes & (methods | properties))
+        self.assertFalse(attributes & NO_ATTRIBUTES)
 
     def test_names(self):
         everything = set(dir(builtins)) - {"_"}
