@@ -71,7 +71,7 @@ class Stack:
         if not self.stages:
             return
         caller = self.stages[-1]
-        target, _, _ = caller.plan[caller.block][caller.done_here - 1]
+        target = caller.plan[caller.block][caller.done_here - 1][0]
         if target is not None:
             _, answer = self.group.function(stage.called)
             caller.have = replaced(caller.have, target, stage.sure_of(answer))

@@ -39,7 +39,8 @@ def random_group(chance, mark=None, many=3, many_blocks=2, most_rows=3, many_nam
         usable = {**known, **with_table(table), **{other: (len(heads[other]),) for other in words}}
         if mark:
             usable = {key: usable[key] for key in list(known) + list(table) + words}
-        picked = list(usable) + words * 6
+        # Calls, and rows that hand on what they lack or want something, are more frequent than others.
+        picked = list(usable) + words * 6 + ["xor", {None: "slt", "z": "shr", "s": "sar"}[mark]] * 3
         blocks = {}
         labels = ["p", "f", "do", "z"][:many_blocks]
         for label in labels:

@@ -14,7 +14,7 @@ from signskept.tables import is_right
 from signskept.wants import gift, wanted
 from tests.groups import Paths, known_needs, operations_of
 from tests.helpers import Agreeable, Angry, Case, odd_values
-from tests.plain import all_roads, random_fit_program, random_fit_table, with_table
+from tests.plain import random_fit_program, random_fit_table, with_table
 
 LOAD, SHR = ("do", "a", "load"), ("do", None, "shr", "a")
 # Into q and t several goes come; r is on no road.

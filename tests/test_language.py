@@ -54,6 +54,11 @@ INTERFACE = {
     "functions": {"Function": "__init__", "Group": "entry words function calls variables_in"},
     "books": {"Book": "__getitem__ __setitem__ __and__ __or__ __len__ __eq__ within", "alone": None, "is_kept": None},
     "wholeruns": {"Run": "steps ended fails __len__"},
+    "joined": {"joined_sum": None},
+    "bestbooks": {"BestBook": "book cost puts flow", "plain_books": None, "book_cost": None},
+    "mixed": {"clashes": None, "keepers": None},
+    "menus": {"Menu": "program changed helping fewest least __getitem__ __setitem__ __len__"},
+    "papers": {"Checker": "accepted __call__", "paper_of": None},
     "texts": dict.fromkeys("format_program parse_program format_run parse_run".split()),
     "drafts": {"Draft": "now put_row put_more take_out undo copy trial", "tried": None},
 }

@@ -40,7 +40,7 @@ class Runs(Case):
             self.assertEqual([run.steps, run.fails(), run.ended], [steps, fails, ended])
             self.assertEqual(len(run), len(steps))
             kinds.add((ended, len(fails) > 0, max([step[2] for step in steps], default=0) > 1))
-        self.assertGreaterEqual(len(kinds), 7)
+        self.assertEqual([{kind[at] for kind in kinds} for at in range(3)], [{True, False}] * 3)
 
     def test_beside_a_reckoning_by_processes_without_limits(self):
         for chance, told, one, turns, most in told_runs(201, 100, many=2, many_blocks=3, most_rows=5):
