@@ -53,7 +53,6 @@ class Book:
 
     def within(self, other):
         """Whether the other Book promises all that this one does."""
-        _check_like(self, other)
         return (self & other) == self
 
 

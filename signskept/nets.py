@@ -133,7 +133,8 @@ def _note_pairs(found, numbers, vertex, passed):
 
 def _path_of(spots, vertices):
     """The points, with variables, of the spots whose vertices are passed."""
-    passed = [spots[(vertex - 2) // 2] for vertex in vertices if vertex != SINK and vertex & 1 == 0]
+    # Each spot has an even vertex, and an odd one behind it; the sink is odd.
+    passed = [spots[(vertex - 2) // 2] for vertex in vertices if vertex & 1 == 0]
     return tuple([spot for spot in passed if spot[-2][1] == ""])
 
 

@@ -248,6 +248,16 @@ class Best(Case):
         self.assertEqual([best.cost, len(best.puts["g"])], [1, 1])
         self.assertEqual(self.check(Group("f", {"f": f, "g": g}, starts={"b": "z"}), "z", None).cost, 0)
 
+    def test_a_put_right_ahead_of_a_return(self):
+        # What g loads is made sure at its end, so that it can be promised, since f is run more often.
+        g = Function("p", {"p": ((("do", "x", "load"),), ())}, answer="x")
+        f = Function("p", {"p": ((("do", "a", "g"), ("do", None, "shr", "a")), ())})
+        one = Group("f", {"f": f, "g": g})
+        best = self.check(one, "z", {"f": {("", "p"): 9}})
+        self.assertEqual([best.cost, best.puts, best.book()["g"]], [1, {"f": [], "g": [(("p", "", 1), "x")]}, ((), "z")])
+        best = self.check(one, "z", {"g": {("", "p"): 9}})
+        self.assertEqual([best.cost, best.puts, best.book()["g"]], [1, {"f": [(("p", "", 1), "a")], "g": []}, ((), "")])
+
     def test_rings_of_calls(self):
         # Each function hands its parameter to the next one; the answer comes back round the ring.
         given = {}

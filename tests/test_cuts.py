@@ -114,6 +114,13 @@ class Costs(Case):
         for bad in bad_frequencies(("p", "p")):
             self.refused(BadFrequencies, bad, cost_of, program, [], bad)
 
+    def test_goes_that_only_say_that_they_are_some(self):
+        # The hash of these is that of "z".
+        program = Program("z", {"z": ((), ("z",))}, starts={"a": ""})
+        self.assertEqual(cost_of(program, [(("z", "z", 0), "a")], {("z", "z"): 4}), 4)
+        for bad in [(Agreeable(), "z"), ("z", Agreeable()), (Agreeable(), Agreeable()), Agreeable()]:
+            self.refused(BadFrequencies, often := {bad: 4}, cost_of, program, [], often)
+
     def test_programs_that_are_not_simple(self):
         program = Program("p", {"p": ((("widen", "s", "a"), ("widen", "z", "a")), ())})
         self.assertEqual(cost_of(program, [(("p", "", 1), "a")]), 1)

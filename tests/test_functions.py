@@ -144,6 +144,7 @@ class Equality(Case):
         turned = {word: turned[word] for word in "khgf"}
         self.assertEqual(group, Group("f", turned, starts={"a": "zs"}))
         self.assertEqual(group, Group("f", functions(h=Function("p", {"p": ((), ())}, table={})), starts={"a": "zs"}))
+        self.assertFalse(Group("h", functions()) == Group("k", functions()))
         others = [Group("k", functions()), Group("f", functions()), Group("f", functions(), starts={"a": "z"}),
                   Group("f", functions(h=Function("q", {"q": ((), ())})), starts={"a": "zs"}),
                   Group("f", functions(h=Function("p", {"p": ((), ()), "q": ((), ())})), starts={"a": "zs"}),

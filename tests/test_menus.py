@@ -162,7 +162,7 @@ class Changed(Case):
 
     def test_choices_of_another_form(self):
         menu = Menu(program(), ROW, OUT, END)
-        for bad in [(3,), (-1,), (1, 0), (0, 0), (0, 1, 1), [0], [0, 1], [], {0: 1}, {0}, "0", ("0",), (True,), (False, 1), (0, True), (None,), (0.0,),
+        for bad in [(3,), (-1,), (1, 0), (0, 0), (0, 1, 1), (2, 2), (0, 2, 2), (2, 0), (0, 2, 1), [0], [0, 1], [], {0: 1}, {0}, "0", ("0",), (True,), (False, 1), (0, True), (None,), (0.0,),
                     ((0,),), 0, None, iter([0]), (Agreeable(),), (0, Angry()), range(2), (0, 10 ** 30)] + odd_values():
             self.refused(BadChosen, bad, menu.changed, bad)
         self.refused(BadChosen, bad := (0,), Menu(program()).changed, bad)
